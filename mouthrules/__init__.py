@@ -1,0 +1,1 @@
+"""Mouthrules: texts whose signs turn their kinds as they are read."""
