@@ -97,6 +97,13 @@ def is_piece(thing):
     return word == "hand" and is_whole(signs) and 1 <= signs <= MOST_HANDS
 
 
+def turn_of(piece):
+    """How many groups more stand open behind a piece than ahead of it."""
+    if piece[0] == "open":
+        return 1
+    return -1 if piece[0] == "shut" else 0
+
+
 def is_row(thing):
     """Whether this is a row."""
     return isinstance(thing, list) and all([is_piece(piece) for piece in thing])
@@ -107,11 +114,8 @@ def is_balanced(thing):
     if not is_row(thing):
         return False
     depth = 0
-    for word, signs in thing:
-        if word == "open":
-            depth += 1
-        elif word == "shut":
-            depth -= 1
+    for piece in thing:
+        depth += turn_of(piece)
         if depth < 0:
             return False
     return depth == 0

@@ -109,6 +109,53 @@ class LanguageTest(unittest.TestCase):
                     if isinstance(node, ast.Constant) and isinstance(node.value, str):
                         self.assertNotIn("%", node.value)
 
+    def test_module_level_holds_plain_values_alone(self):
+        for file in FILES:
+            with self.subTest(file=file.name):
+                names = []
+                for node in tree_of(file).body:
+                    if isinstance(node, ast.Assign):
+                        (target,) = node.targets
+                        names.append(target.id)
+                        ast.literal_eval(node.value)
+                    elif isinstance(node, ast.Expr):
+                        self.assertIsInstance(node.value.value, str)
+                    else:
+                        self.assertIsInstance(node, (ast.ImportFrom, ast.FunctionDef, ast.ClassDef))
+                        names.extend(one.name for one in getattr(node, "names", [node]))
+                self.assertEqual(len(names), len(set(names)))
+
+    def test_no_file_imports_itself_through_others(self):
+        imported = {file.stem: {node.module.split(".")[1] for node in tree_of(file).body
+                                if isinstance(node, ast.ImportFrom)} for file in FILES}
+        for start in imported:
+            with self.subTest(file=start):
+                reached, waiting = set(), list(imported[start])
+                while waiting:
+                    name = waiting.pop()
+                    if name not in reached:
+                        reached.add(name)
+                        waiting.extend(imported[name])
+                self.assertNotIn(start, reached)
+
+    def test_is_stands_with_none_true_and_false_alone(self):
+        for file in FILES:
+            for node in ast.walk(tree_of(file)):
+                if isinstance(node, ast.Compare) and any(isinstance(sign, (ast.Is, ast.IsNot)) for sign in node.ops):
+                    with self.subTest(file=file.name, line=node.lineno):
+                        self.assertIsInstance(node.comparators[-1], ast.Constant)
+                        self.assertIn(node.comparators[-1].value, (None, True, False))
+
+    def test_what_classes_that_compare_bar(self):
+        for file in FILES:
+            for node in ast.walk(tree_of(file)):
+                if isinstance(node, ast.Call) and isinstance(node.func, ast.Name):
+                    if node.func.id in ("any", "all", "min", "max", "sum", "sorted"):
+                        with self.subTest(file=file.name, line=node.lineno):
+                            self.assertFalse([one for one in node.args if isinstance(one, ast.GeneratorExp)])
+                if isinstance(node, ast.Call) and isinstance(node.func, ast.Attribute):
+                    self.assertNotEqual(node.func.attr, "sort", file.name)
+
     def test_statements_and_values_that_are_barred(self):
         barred = (ast.Global, ast.AsyncFunctionDef, ast.AsyncFor, ast.AsyncWith, ast.Await, ast.Div)
         for file in FILES:
