@@ -1,7 +1,7 @@
 """Books: a table of kinds, meanings, boxes, and groups that give back what was set in them."""
 
 from mouthrules.errors import Fault, NoKey, NoWorth
-from mouthrules.pieces import first_kinds, is_kind, is_name, is_piece, is_row, is_sign, is_whole
+from mouthrules.pieces import first_kinds, is_kind, is_name, is_piece, is_row, is_sign, is_whole, kind_in
 from mouthrules.rules import hands_among, is_rule
 
 EXCHANGED = ("behind", "name", "iflike", "ifsame", "ifkind", "ifless", "else", "fi", "figures", "row", "text")
@@ -17,8 +17,8 @@ MOST_BOX = 255
 # 10 ** 12: a number box's worth is below this and above its contrary.
 GREAT = 1000000000000
 
-# The worth of a key of each word where a book keeps none. A row is kept as a tuple.
-BARE_WORTHS = {"kind": "other", "name": None, "active": None, "box": 0, "row": ()}
+# The worth of a key of each word where a book keeps none; kinds are kept by themselves. A row is kept as a tuple.
+BARE_WORTHS = {"name": None, "active": None, "box": 0, "row": ()}
 
 
 def is_box(thing):
@@ -81,29 +81,39 @@ def is_worth(key, thing):
     return thing is None or is_meaning(thing)
 
 
-def first_worths():
-    """A new dict: what a book keeps at first."""
-    kinds = first_kinds()
-    kept = {("kind", sign): kinds[sign] for sign in kinds}
-    for word in DEEDS:
-        kept[("name", word)] = ("deed", word)
-    return kept
+def first_meanings():
+    """A new dict: what a book keeps at first beside kinds."""
+    return {("name", word): ("deed", word) for word in DEEDS}
 
 
 class Group:
-    """An open group: what began it, what it gives back by keys, and what is left for its end."""
+    """An open group: what began it, what it gives back by keys, and what is left for its end.
 
-    def __init__(self, word):
+    It is never changed once it is made, so twins of a book share it.
+    """
+
+    def __init__(self, word, olds, left):
         self.word = word
-        self.olds = {}
-        self.left = []
+        self.olds = olds
+        self.left = left
 
-    def twin(self):
-        """A group like this one, that goes on by itself."""
-        twin = Group(self.word)
-        twin.olds = {key: self.olds[key] for key in self.olds}
-        twin.left = list(self.left)
-        return twin
+    def giving_back(self, key, worth):
+        """This group, where it gives back something of that key; else one that gives back this, too."""
+        if key in self.olds:
+            return self
+        olds = {old: self.olds[old] for old in self.olds}
+        olds[key] = worth
+        return Group(self.word, olds, self.left)
+
+    def giving_nothing(self, key):
+        """A group like this one that gives back nothing of that key."""
+        if key not in self.olds:
+            return self
+        return Group(self.word, {old: self.olds[old] for old in self.olds if old != key}, self.left)
+
+    def leaving(self, piece):
+        """A group like this one, for whose end that piece is left, too."""
+        return Group(self.word, self.olds, [*self.left, piece])
 
     def __eq__(self, other):
         return (isinstance(other, Group) and self.word == other.word and self.olds == other.olds
@@ -114,7 +124,8 @@ class Book:
     """Keeps worths by keys; those that are bare are not kept, so that books alike keep the same."""
 
     def __init__(self):
-        self.kept = first_worths()
+        self.table = first_kinds()
+        self.kept = first_meanings()
         self.groups = []
 
     def worth(self, key):
@@ -133,12 +144,12 @@ class Book:
         if for_all:
             self.forget(key)
         elif self.groups:
-            self.groups[-1].olds.setdefault(key, self.kept_at(key))
+            self.groups[-1] = self.groups[-1].giving_back(key, self.kept_at(key))
         self.keep(key, tuple(worth) if key[0] == "row" else worth)
 
     def begin(self, word):
         """Begin a group by a word, signs or deeds."""
-        self.groups.append(Group(word))
+        self.groups.append(Group(word, {}, []))
 
     def end(self, word):
         """End the last open group, which that word must have begun; what was left for later is told."""
@@ -155,11 +166,11 @@ class Book:
             raise NoWorth(piece)
         if not self.groups:
             raise Fault("groups")
-        self.groups[-1].left.append(piece)
+        self.groups[-1] = self.groups[-1].leaving(piece)
 
     def kinds(self):
         """The table of kinds, without signs that are other."""
-        return {key[1]: self.kept[key] for key in self.kept if key[0] == "kind"}
+        return dict(self.table)
 
     def depth(self):
         """How many groups are open."""
@@ -168,25 +179,34 @@ class Book:
     def twin(self):
         """A book like this one, that goes on by itself."""
         twin = Book()
+        twin.table = dict(self.table)
         twin.kept = {key: self.kept[key] for key in self.kept}
-        twin.groups = [group.twin() for group in self.groups]
+        twin.groups = list(self.groups)
         return twin
 
     def __eq__(self, other):
-        return isinstance(other, Book) and self.kept == other.kept and self.groups == other.groups
+        return (isinstance(other, Book) and self.table == other.table and self.kept == other.kept
+                and self.groups == other.groups)
 
     def kept_at(self, key):
-        """The worth of a key in the form in which it is kept."""
-        return self.kept.get(key, BARE_WORTHS[key[0]])
+        """The worth of a key, at which no look is taken, in the form in which it is kept."""
+        word, part = key
+        if word == "kind":
+            return kind_in(self.table, part)
+        return self.kept.get(key, BARE_WORTHS[word])
 
     def keep(self, key, worth):
         """Make this the worth of a key, whatever groups give back."""
-        if worth == BARE_WORTHS[key[0]]:
+        word, part = key
+        if word == "kind" and worth == "other":
+            self.table.pop(part, None)
+        elif word == "kind":
+            self.table[part] = worth
+        elif worth == BARE_WORTHS[word]:
             self.kept.pop(key, None)
         else:
             self.kept[key] = worth
 
     def forget(self, key):
         """No open group gives that key back any more."""
-        for group in self.groups:
-            group.olds.pop(key, None)
+        self.groups = [group.giving_nothing(key) for group in self.groups]

@@ -39,6 +39,17 @@ def bound_in(tree):
     return bound
 
 
+def plain_value(node, functions):
+    """Whether this is a plain value, or a dict of functions defined above, which holds no list and no dict."""
+    if isinstance(node, ast.Dict):
+        return all(plain_value(key, ()) and plain_value(worth, functions) and not isinstance(worth, (ast.Dict, ast.List))
+                   for key, worth in zip(node.keys, node.values))
+    if isinstance(node, ast.Name):
+        return node.id in functions
+    ast.literal_eval(node)
+    return True
+
+
 def methods_in(tree):
     return [node.name for made in ast.walk(tree) if isinstance(made, ast.ClassDef)
             for node in made.body if isinstance(node, ast.FunctionDef)]
@@ -116,8 +127,8 @@ class LanguageTest(unittest.TestCase):
                 for node in tree_of(file).body:
                     if isinstance(node, ast.Assign):
                         (target,) = node.targets
+                        self.assertTrue(plain_value(node.value, names), target.id)
                         names.append(target.id)
-                        ast.literal_eval(node.value)
                     elif isinstance(node, ast.Expr):
                         self.assertIsInstance(node.value.value, str)
                     else:
