@@ -1,6 +1,5 @@
 """Asks: which of two branches is read, and how the other one is passed over."""
 
-from mouthrules.errors import Fault
 from mouthrules.gullet import BEING_ASKED
 
 ASKS = ("iflike", "ifsame", "ifkind", "ifless")
@@ -32,21 +31,6 @@ def pass_branch(gullet, number):
             return word
         elif word == "fi":
             within -= 1
-
-
-def take_else(gullet):
-    """An else is met: what is behind it is passed over."""
-    if not gullet.open_asks or gullet.open_asks[-1] != "so":
-        raise Fault("ask")
-    if pass_branch(gullet, len(gullet.open_asks) - 1) == "else":
-        raise Fault("ask")
-
-
-def take_fi(gullet):
-    """A fi is met: the last ask ends."""
-    if not gullet.open_asks:
-        raise Fault("ask")
-    gullet.open_asks.pop()
 
 
 def kind_asked(gullet, piece):

@@ -3,7 +3,7 @@
 from mouthrules.books import GREAT
 from mouthrules.errors import Fault
 from mouthrules.exchanges import gathered, past_blanks, raw_group
-from mouthrules.pieces import BLANK, is_kind
+from mouthrules.pieces import is_kind
 from mouthrules.rules import rule_from
 from mouthrules.through import gone, gullet_of_row
 
@@ -42,7 +42,7 @@ def set_like(gullet, for_all):
 
 def sign_in(group):
     """The sign of the one piece of a group, whose kind is to be set."""
-    if len(group) != 1 or group[0][0] == "hand" or len(group[0][1]) != 1:
+    if len(group) != 1 or len(group[0][1]) != 1:
         raise Fault("kind")
     return group[0][1]
 

@@ -4,7 +4,7 @@ An exchange may want pieces that are exchanged first, which may want others, and
 a list of its own, not in calls within calls, of which there may not be as many as exchanges.
 """
 
-from mouthrules.asks import ASKS, answer, begin_ask, is_less, kind_asked, take_else, take_fi
+from mouthrules.asks import ASKS, answer, begin_ask, is_less, kind_asked, pass_branch
 from mouthrules.errors import Fault
 from mouthrules.gullet import MOST_PIECES
 from mouthrules.parts import part_of
@@ -79,6 +79,21 @@ def ask_like(gullet):
     number = begin_ask(gullet)
     one, other = gullet.wanted(), gullet.wanted()
     answer(gullet, number, gullet.meaning(one) == gullet.meaning(other))
+
+
+def take_else(gullet):
+    """An else is met: what is behind it is passed over."""
+    if not gullet.open_asks or gullet.open_asks[-1] != "so":
+        raise Fault("ask")
+    if pass_branch(gullet, len(gullet.open_asks) - 1) == "else":
+        raise Fault("ask")
+
+
+def take_fi(gullet):
+    """A fi is met: the last ask ends."""
+    if not gullet.open_asks:
+        raise Fault("ask")
+    gullet.open_asks.pop()
 
 
 def put_named_text(gullet):

@@ -3,7 +3,7 @@
 from mouthrules.books import EXCHANGED
 from mouthrules.errors import Ends, Fault
 from mouthrules.mouth import MORE, Mouth
-from mouthrules.pieces import BLANK, kind_in
+from mouthrules.pieces import takes_blanks
 
 MOST_PIECES = 2000
 
@@ -75,21 +75,13 @@ class Gullet:
             raise Fault("ends") from None
         if piece == MORE:
             raise MoreWanted("more of the first text is wanted")
-        self.lean_on_signs(mouth, start, piece)
-        return piece
-
-    def lean_on_signs(self, mouth, start, piece):
-        """Lean on the kinds of the signs that a text was read by from there on, to tell this piece."""
         behind = mouth.place()
-        if piece == BLANK or self.is_name_of_letters(piece):
-            # Where such a piece ends shows by the sign behind it.
+        if piece is not None and takes_blanks(piece, self.own_book.table):
+            # Where such a piece ends shows by the sign behind it, which is looked at, too.
             behind += 1
         for sign in mouth.text()[start:behind]:
             self.leans[("kind", sign)] = True
-
-    def is_name_of_letters(self, piece):
-        """Whether this, told of a text just now, is a name of letters."""
-        return piece is not None and piece[0] == "name" and kind_in(self.own_book.table, piece[1][0]) == "letter"
+        return piece
 
     def put_row(self, row):
         """Put a row ahead of all that waits."""

@@ -5,9 +5,7 @@ A part takes one piece after another, none of which can be exchanged, till it is
 
 from mouthrules.books import GREAT, is_box
 from mouthrules.errors import Fault
-from mouthrules.pieces import BLANK, MOST_SIGNS_OF_NAME
-
-DIGITS = "0123456789"
+from mouthrules.pieces import BLANK, DIGITS, MOST_SIGNS_OF_NAME
 
 WORDS_IN_NAMES = ("letter", "other", "blank")
 

@@ -25,6 +25,8 @@ BLANK = ("blank", " ")
 
 MOST_SIGNS_OF_NAME = 30
 
+DIGITS = "0123456789"
+
 MOST_HANDS = 9
 
 
@@ -95,6 +97,12 @@ def is_piece(thing):
     if word == "name":
         return is_name(signs)
     return word == "hand" and is_whole(signs) and 1 <= signs <= MOST_HANDS
+
+
+def takes_blanks(piece, kinds):
+    """Whether blanks right behind that piece are read with it: where it is a blank, or a name of letters of a table."""
+    word, signs = piece
+    return word == "blank" or word == "name" and all([kind_in(kinds, sign) == "letter" for sign in signs])
 
 
 def turn_of(piece):

@@ -94,6 +94,15 @@ class LanguageTest(unittest.TestCase):
                         self.assertEqual(node.level, 0)
                         self.assertTrue((PACKAGE / (node.module.split(".")[1] + ".py")).exists())
 
+    def test_all_that_is_imported_is_used(self):
+        for file in FILES:
+            with self.subTest(file=file.name):
+                tree = tree_of(file)
+                used = {node.id for node in ast.walk(tree) if isinstance(node, ast.Name)}
+                for node in tree.body:
+                    if isinstance(node, ast.ImportFrom):
+                        self.assertEqual([one.name for one in node.names if one.name not in used], [])
+
     def test_names(self):
         for file in FILES:
             with self.subTest(file=file.name):

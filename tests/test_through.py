@@ -54,6 +54,33 @@ class RowTest(ReadingCase):
             with self.subTest(pieces=pieces):
                 self.assertEqual(come_to(pieces, book=book, texts={"t": "m \nn"}), wanted)
 
+    def test_hands_in_asks(self):
+        other = ("hand", 2)
+        book = book_of(x=("piece", A))
+
+        def asked(word, *pieces):
+            told = come_to([("name", word), *pieces, *named("y", "\\else", "n", "\\fi")], book=book)
+            return told[0][1]
+        for word, pieces, wanted in (
+                ("iflike", (HAND, HAND), "y"), ("iflike", (HAND, other), "n"), ("iflike", (HAND, ("name", "q")), "n"),
+                ("ifsame", (HAND, other), "y"), ("ifsame", (HAND, ("name", "q")), "y"), ("ifsame", (HAND, TILDE), "y"),
+                ("ifsame", (HAND, A), "n"), ("ifsame", (HAND, ("other", "1")), "n"), ("ifsame", (HAND, ("name", "x")), "n"),
+                ("ifkind", (HAND, other), "y"), ("ifkind", (other, ("name", "q")), "y"), ("ifkind", (TILDE, HAND), "y"),
+                ("ifkind", (HAND, A), "n"), ("ifkind", (("name", "x"), HAND), "n"), ("ifkind", (("name", "x"), B), "y")):
+            with self.subTest(word=word, pieces=pieces):
+                self.assertEqual(asked(word, *pieces), wanted)
+
+    def test_hands_where_other_pieces_are_wanted(self):
+        book = book_of(z=("rule", (HAND, ("other", ".")), (HAND, HAND)))
+        self.assertEqual(come_to([("name", "figures"), HAND]), "number")
+        self.assertEqual(come_to([*named("\\figures", "5"), HAND]), [("other", "5"), HAND])
+        self.assertEqual(come_to([*named("\\name", "a"), HAND, ("name", "endname")]), "name")
+        self.assertEqual(come_to([*named("\\text", "{"), HAND, *row("}")]), "text")
+        self.assertEqual(come_to([*named("\\text"), HAND]), "text")
+        self.assertEqual(come_to([("name", "z"), HAND, ("hand", 3), *row(".")], book=book), [HAND, ("hand", 3)] * 2)
+        self.assertEqual(come_to([("name", "behind"), HAND, ("hand", 2)]), [HAND, ("hand", 2)])
+        self.assertEqual(come_to([*named("\\iflike", "ab"), HAND, *named("\\else"), ("hand", 2), *named("\\fi")]), [("hand", 2)])
+
     def test_stay(self):
         book = book_of(x=row("ab"), st=("deed", "stay"), e=[], z=("rule", (HAND,), (HAND, HAND)))
         for pieces, wanted in ((named("\\stay", "\\x", "\\x"), named("\\x", "ab")), (named("\\st", "\\x"), named("\\x")),
