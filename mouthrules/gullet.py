@@ -3,7 +3,6 @@
 from mouthrules.books import EXCHANGED
 from mouthrules.errors import Ends, Fault
 from mouthrules.mouth import MORE, Mouth
-from mouthrules.pieces import takes_blanks
 
 MOST_PIECES = 2000
 
@@ -27,14 +26,14 @@ class Level:
         self.pieces = pieces
 
     def twin(self):
-        """A level like this one, that goes on by itself."""
-        return Level(None if self.mouth is None else self.mouth.twin(), list(self.pieces))
+        """A level like this one, which has a text, that goes on by itself."""
+        return Level(self.mouth.twin(), list(self.pieces))
 
     def is_like(self, other):
-        """Whether what waits there is alike; both have a mouth, or neither."""
-        if self.pieces != other.pieces or self.mouth is None:
-            return self.pieces == other.pieces
-        return self.mouth.place() == other.mouth.place() and self.mouth.text() == other.mouth.text()
+        """Whether what waits there is alike."""
+        if self.pieces != other.pieces or self.mouth.place() != other.mouth.place():
+            return False
+        return self.mouth.text() == other.mouth.text()
 
 
 class Gullet:
@@ -75,11 +74,9 @@ class Gullet:
             raise Fault("ends") from None
         if piece == MORE:
             raise MoreWanted("more of the first text is wanted")
-        behind = mouth.place()
-        if piece is not None and takes_blanks(piece, self.own_book.table):
-            # Where such a piece ends shows by the sign behind it, which is looked at, too.
-            behind += 1
-        for sign in mouth.text()[start:behind]:
+        # The sign behind may have been looked at, too. It needn't be told here: leans are told of rows alone that
+        # were gone through to the end, and so all signs of their texts are read or passed by then.
+        for sign in mouth.text()[start:mouth.place()]:
             self.leans[("kind", sign)] = True
         return piece
 

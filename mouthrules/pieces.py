@@ -99,12 +99,6 @@ def is_piece(thing):
     return word == "hand" and is_whole(signs) and 1 <= signs <= MOST_HANDS
 
 
-def takes_blanks(piece, kinds):
-    """Whether blanks right behind that piece are read with it: where it is a blank, or a name of letters of a table."""
-    word, signs = piece
-    return word == "blank" or word == "name" and all([kind_in(kinds, sign) == "letter" for sign in signs])
-
-
 def turn_of(piece):
     """How many groups more stand open behind a piece than ahead of it."""
     if piece[0] == "open":

@@ -1,12 +1,18 @@
 """Rows written as texts that are read back to just them."""
 
 from mouthrules.errors import NoWriting
-from mouthrules.pieces import BLANK, kind_in, takes_blanks
+from mouthrules.pieces import BLANK, kind_in
 
 
 def least_sign(kinds, kind):
     """The least sign of a kind that isn't other; no sign where there is none."""
     return min([sign for sign in kinds if kinds[sign] == kind], default="")
+
+
+def takes_blanks(piece, kinds):
+    """Whether blanks right behind that piece are read with it: where it is a blank, or a name of letters of a table."""
+    word, signs = piece
+    return word == "blank" or word == "name" and all([kind_in(kinds, sign) == "letter" for sign in signs])
 
 
 def signs_of(piece, kinds, escape, blank):

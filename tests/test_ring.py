@@ -56,6 +56,11 @@ class RingTest(unittest.TestCase):
         self.assertIsNone(ring(Machine("\\text{a}", texts={"a": "\\text{a}"})))
         # One of them is over and gone ahead of the next one.
         self.assertEqual(ring(Machine("\\rule\\x{\\text{a}}\\x", texts={"a": "b\\x "})), None)
+        # Two unlike ones at the same place, ahead of the same row.
+        text = "\\rule\\x{\\text{a}\\w}\\rule\\w{\\text{b}\\w}\\x"
+        for texts in ({"a": "1", "b": "2"}, {"a": "1", "b": "1"}, {"a": "1\\skip", "b": "1\\skip\\skip"}):
+            self.assertEqual(ring(Machine(text, texts=texts)), naive_ring(text, 100, texts=texts))
+        self.assertNotEqual(ring(Machine(text, texts={"a": "1", "b": "2"})), ring(Machine(text, texts={"a": "1", "b": "1"})))
         # Alike texts by other names are alike.
         texts = {"a": "\\like\\y=\\skip c", "b": "\\like\\y=\\skip c"}
         text = "\\rule\\x{\\text{a}\\text{b}\\x}\\x"
